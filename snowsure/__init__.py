@@ -1,0 +1,1 @@
+"""Snowsure: what a city's snow service can promise, whatever falls."""
