@@ -1,0 +1,147 @@
+"""[28], [1] The interface: names, arguments, where each is defined; and the examples, to the sign."""
+
+import doctest
+import importlib
+import inspect
+import unittest
+
+from snowsure import errors
+from tests.samples import FAIR, TOWN
+
+FUNCTIONS = {
+    "cities": {
+        "check_city": "thing", "check_sky": "city, thing", "is_city": "thing", "is_sky": "city, thing", "arcs_of": "sky, state",
+    },
+    "world": {
+        "beginning": "city, sky", "orders_of": "city, standing", "answers_of": "city, sky, standing, orders",
+        "follow": "city, sky, standing, orders, answer", "followers": "city, sky, standing, orders",
+        "closed_streets": "city, standing", "is_standing": "city, sky, thing",
+    },
+    "games": {"verdict": "city, sky", "standings_of": "city, sky"},
+    "papers": {
+        "is_rule": "city, sky, rule", "is_weather": "city, sky, weather", "check_rule": "city, sky, rule",
+        "check_weather": "city, sky, weather", "holds": "city, sky, told",
+    },
+    "runs": {
+        "run": "city, sky, steps", "first_closed": "city, standings", "met": "city, sky, rule, weather",
+        "kept_up": "city, sky, rule, answers",
+    },
+    "fewest": {
+        "with_ploughs": "city, choice", "with_rules": "city, late, falls", "fewest_ploughs": "city, sky",
+        "greatest_late": "city, sky", "greatest_falls": "city, sky",
+    },
+    "routes": {
+        "lanes_of": "city", "is_trip": "city, home, lanes, trip", "empty_way": "city, trip", "balance_of": "city, lanes",
+        "hang_together": "city, home, lanes", "round_trip": "city, home, lanes", "is_priced": "city, home, lanes, trip, prices",
+        "any_trip": "city, home, lanes", "is_tabled": "city, home, lanes, trip, table",
+    },
+}
+
+ERRORS = {
+    "BadCity": ("name", "why"), "BadSky": ("name", "why"), "BadOrders": ("thing",), "BadPaper": ("why",), "TooMany": ("most",),
+    "BadText": ("line", "column"),
+}
+
+# The examples build on each other, as in the document.
+EXAMPLES = {
+    "the town": '''
+>>> from snowsure.games import verdict
+>>> hill = ("hill", "a", "b", 1, 1, 1, ((0, 1),))
+>>> town = (("a", "b"), (hill,), (("ann", "a"),), (3, 1, 0))
+>>> fair = ("dry", (("dry", (("dry", ()), ("wet", ("hill",)))), ("wet", (("dry", ()),))))
+>>> verdict(town, fair)[0], verdict(town[:3] + ((3, 2, 0),), fair)[0]
+('promised', 'beaten')
+''',
+    "cities": '''
+>>> from snowsure.cities import is_city, is_sky
+>>> hill = ("hill", "a", "b", 1, 1, 1, ((0, 1),))
+>>> town = (("a", "b"), (hill,), (("ann", "a"),), (3, 1, 0))
+>>> fair = ("dry", (("dry", (("dry", ()), ("wet", ("hill",)))), ("wet", (("dry", ()),))))
+>>> [is_city(town), is_city(town[:3]), is_sky(town, fair), is_sky(town, ("fog", fair[1]))]
+[True, False, True, False]
+''',
+    "world": '''
+>>> from snowsure.world import answers_of, beginning, closed_streets, follow, orders_of
+>>> start = beginning(town, fair)
+>>> [start, orders_of(town, start), answers_of(town, fair, start, (("hill", True),))]
+[(0, 'dry', (0,), (('at', 'a'),), 0), [(None,), (('hill', False),), (('hill', True),)], \
+[(0, (False,), None), (0, (True,), None), (1, (False,), None), (1, (True,), None)]]
+>>> late = follow(town, fair, start, (("hill", True),), (1, (False,), None))
+>>> [late, follow(town, fair, late, (None,), (0, (True,), None)), closed_streets(town, (0, "dry", (2,), (("at", "a"),), 0))]
+[(1, 'wet', (1,), (('on', 'hill', 'b', True, 0),), 0), (2, 'dry', (0,), (('at', 'b'),), 0), ('hill',)]
+''',
+    "papers": '''
+>>> from snowsure.games import verdict
+>>> from snowsure.papers import holds, is_rule
+>>> word, rule = verdict(town, fair)
+>>> [word, is_rule(town, fair, rule), is_rule(town, fair, {}), holds(town, fair, ("beaten", rule))]
+['promised', True, False, False]
+''',
+    "runs": '''
+>>> from snowsure.runs import first_closed, kept_up, met, run
+>>> worse = town[:3] + ((3, 2, 0),)
+>>> steps = met(worse, fair, {}, verdict(worse, fair)[1])
+>>> [first_closed(worse, run(worse, fair, steps))[1], first_closed(town, kept_up(town, fair, rule, (3, 1, 2, 0, 3, 1)))]
+[('hill',), None]
+''',
+    "fewest": '''
+>>> from snowsure.fewest import fewest_ploughs, greatest_falls, greatest_late
+>>> pair = town[:2] + ((("ann", "a"), ("bob", "b")), (3, 1, 1))
+>>> [greatest_late(town, fair)[0], greatest_falls(town, fair)[0], fewest_ploughs(pair[:3] + ((3, 1, 0),), fair)[0]]
+[1, 0, (0,)]
+''',
+    "routes": '''
+>>> from snowsure.routes import any_trip, balance_of, empty_way, is_priced, round_trip
+>>> streets = (("ab", "a", "b", 2, 2, 0, ()), ("bc", "b", "c", 3, 3, 0, ()), ("ca", "c", "a", 4, 4, 0, ()))
+>>> ring = (("a", "b", "c"), streets, (("ann", "a"),), (1, 0, 0))
+>>> trip, prices = round_trip(ring, "a", (("ab", "a"), ("bc", "b")))
+>>> both = (("ab", "a"), ("bc", "b"))
+>>> [trip, balance_of(ring, both), is_priced(ring, "a", both, trip, prices)]
+[(('ab', 'a', True), ('bc', 'b', True), ('ca', 'c', False)), {'a': -1, 'b': 0, 'c': 1}, True]
+>>> empty_way(ring, any_trip(ring, "a", (("bc", "b"),))[0])
+6
+''',
+}
+
+
+class Names(unittest.TestCase):
+    def test_functions(self):
+        for module, functions in FUNCTIONS.items():
+            loaded = importlib.import_module(f"snowsure.{module}")
+            for name, arguments in functions.items():
+                function = getattr(loaded, name)
+                self.assertTrue(inspect.isfunction(function))
+                self.assertEqual(function.__module__, f"snowsure.{module}")
+                self.assertEqual(str(inspect.signature(function)), f"({arguments})", name)
+
+    def test_errors(self):
+        self.assertEqual(errors.SnowError.__bases__, (Exception,))
+        for name, attributes in ERRORS.items():
+            error = getattr(errors, name)
+            self.assertEqual(error.__module__, "snowsure.errors")
+            self.assertEqual(error.__bases__, (errors.SnowError,))
+            self.assertIn("__init__", vars(error))
+            told = [object() for _ in attributes]
+            by_place = error(*told)
+            by_name = error(**dict(zip(attributes, told)))
+            for attribute, value in zip(attributes, told):
+                self.assertIs(getattr(by_place, attribute), value)
+                self.assertIs(getattr(by_name, attribute), value)
+
+
+class Examples(unittest.TestCase):
+    def test_to_the_sign(self):
+        names = {}
+        for name, text in EXAMPLES.items():
+            test = doctest.DocTestParser().get_doctest(text, names, name, name, 0)
+            runner = doctest.DocTestRunner(verbose=False)
+            complaints = []
+            runner.run(test, out=complaints.append, clear_globs=False)
+            names.update(test.globs)
+            self.assertEqual(complaints, [])
+            self.assertGreater(runner.summarize(verbose=False).attempted, 2)
+        self.assertEqual((names["town"], names["fair"]), (TOWN, FAIR))
+
+
+if __name__ == "__main__":
+    unittest.main()
