@@ -44,8 +44,10 @@ def game_of(city, sky):
             if triples > MOST_TRIPLES:
                 raise TooMany(MOST_STANDINGS)
             for orders in orders_of(city, standing):
-                pairs = followers(city, sky, standing, orders)
-                rows.append((orders, numbered(pairs, standings, numbers)))
+                answers = []
+                for answer, behind in followers(city, sky, standing, orders):
+                    answers.append((answer, number_in(behind, standings, numbers, MOST_STANDINGS)))
+                rows.append((orders, answers))
         moves.append(rows)
     return standings, moves
 
@@ -59,17 +61,14 @@ def triples_at(city, sky, standing):
     return many
 
 
-def numbered(pairs, standings, numbers):
-    """Pairs with the number of the standing behind instead of it, new ones being added to those known."""
-    rows = []
-    for answer, behind in pairs:
-        if behind not in numbers:
-            if len(standings) == MOST_STANDINGS:
-                raise TooMany(MOST_STANDINGS)
-            numbers[behind] = len(standings)
-            standings.append(behind)
-        rows.append((answer, numbers[behind]))
-    return rows
+def number_in(thing, known, numbers, most):
+    """The number of a thing among at most so many that are known; it is added to them if it is new."""
+    if thing not in numbers:
+        if len(known) == most:
+            raise TooMany(most)
+        numbers[thing] = len(known)
+        known.append(thing)
+    return numbers[thing]
 
 
 def attraction(moves):
