@@ -104,8 +104,8 @@ def wrong_column(line, words, had):
         return first_column
     slots = SLOTS[kind]
     for place, (word, column) in enumerate(words[1:]):
-        slot = slots[place] if place < len(slots) else MORE.get(kind)
-        if slot is None or not can_stand(word, slot):
+        # Nothing can stand where nothing is asked any more.
+        if not can_stand(word, slots[place] if place < len(slots) else MORE.get(kind)):
             return column
     return len(counted(line)) + 1 if len(words) <= len(slots) else None
 

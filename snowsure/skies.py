@@ -99,7 +99,7 @@ def is_move(thing, many):
 
 def comparison_holds(one, other, told):
     """Whether a thing tells how two skies compare, with what shows it."""
-    if not is_row(told, 2, 2) or not isinstance(told[0], str):
+    if not is_row(told, 2, 2):
         return False
     word, thing = told
     if word == "no worse":

@@ -60,16 +60,17 @@ def is_tour(city, sky, first, again):
     if not isinstance(first, tuple) or not isinstance(again, tuple) or not again:
         return False
     begin = belief_behind_all(city, sky, first_belief(city, sky), first)
+    # The last belief is none but this one, which is asked with the first orders that are given again.
     return begin is not None and belief_behind_all(city, sky, begin, again) == begin
 
 
 def belief_behind_all(city, sky, belief, rows):
-    """The belief behind some orders, None if they can't be given or a belief on the way is shut."""
+    """The belief behind some orders, None if they can't be given or a belief ahead of any of them is shut."""
     for orders in rows:
         if is_shut(city, belief) or not can_be_given(city, belief, orders):
             return None
         belief = belief_behind(city, sky, belief, orders)
-    return None if is_shut(city, belief) else belief
+    return belief
 
 
 def tour_for(city, sky):

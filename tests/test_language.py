@@ -118,6 +118,20 @@ class Language(unittest.TestCase):
             if isinstance(node, (ast.FunctionDef, ast.ClassDef)):
                 self.assertEqual(node.decorator_list, [])
 
+    def test_l6_targets(self):
+        for name, node in self.each((ast.List, ast.Tuple)):
+            if isinstance(node.ctx, ast.Store):
+                self.assertIsInstance(node, ast.Tuple, (name, node.lineno))
+                self.assertGreater(len(node.elts), 1, (name, node.lineno))
+
+    def test_l7_no_stars_over_calls(self):
+        for name, node in self.each((ast.List, ast.Tuple, ast.Call)):
+            for part in node.args if isinstance(node, ast.Call) else node.elts:
+                if isinstance(part, ast.Starred) and isinstance(part.value, ast.Call):
+                    self.assertNotIn(part.value.func.id, ("map", "zip", "range", "enumerate", "reversed"), (name, node.lineno))
+                if isinstance(part, ast.Starred) and isinstance(node, ast.Call):
+                    self.assertIsInstance(part.value, (ast.Name, ast.Attribute), (name, node.lineno))
+
     def test_l7_no_floats_no_division(self):
         for name, node in self.each((ast.Constant, ast.Div, ast.GeneratorExp, ast.Set, ast.SetComp)):
             self.assertIsInstance(node, ast.Constant, name)
@@ -178,6 +192,33 @@ class Language(unittest.TestCase):
             for sign, side in zip(node.ops, node.comparators):
                 if isinstance(sign, (ast.Is, ast.IsNot)):
                     self.assertTrue(isinstance(side, ast.Constant) and side.value in (None, True, False), (name, node.lineno))
+
+    def test_l23_iterated_at_once(self):
+        takers = ("list", "tuple", "dict", "sorted", "sum", "any", "all", "enumerate", "zip", "min", "max", "len")
+        for path in files():
+            tree = ast.parse(path.read_text())
+            around = {id(child): node for node in ast.walk(tree) for child in ast.iter_child_nodes(node)}
+            for node in ast.walk(tree):
+                if not isinstance(node, ast.Call):
+                    continue
+                by_name = isinstance(node.func, ast.Name) and node.func.id in ("zip", "enumerate", "range", "reversed", "map")
+                by_method = isinstance(node.func, ast.Attribute) and node.func.attr in ("items", "keys", "values")
+                if by_name or by_method:
+                    outer = around[id(node)]
+                    at_once = isinstance(outer, (ast.For, ast.comprehension)) and outer.iter is node
+                    taken = isinstance(outer, ast.Call) and isinstance(outer.func, ast.Name) and outer.func.id in takers
+                    products = isinstance(outer, ast.Call) and isinstance(outer.func, ast.Name) and outer.func.id in LIBRARY["itertools"]
+                    self.assertTrue(at_once or taken or products, (path.name, node.lineno))
+
+    def test_l2_library_names_are_called(self):
+        for path in files():
+            tree = ast.parse(path.read_text())
+            taken = [node for node in tree.body if isinstance(node, ast.ImportFrom) and node.module in LIBRARY]
+            names = {name.name for node in taken for name in node.names}
+            called = {id(node.func) for node in ast.walk(tree) if isinstance(node, ast.Call)}
+            for node in ast.walk(tree):
+                if isinstance(node, ast.Name) and node.id in names:
+                    self.assertIn(id(node), called, (path.name, node.lineno))
 
     def test_l24_sets_stand_on_the_spot(self):
         for path in files():

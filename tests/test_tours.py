@@ -271,6 +271,16 @@ class Tours(unittest.TestCase):
                     self.assertTrue(all(ranks[after] < ranks[belief] for after in following))
         self.assertTrue(words["tour"] > 10 and words["none"] > 30, words)
 
+    def test_the_first_tick_counts(self):
+        # Who doesn't set out at once is too late.
+        city = (("a", "b"), (("hill", "a", "b", 1, 2, 0, ((2, 3),)),), (("ann", "a"),), (3, 0, 0))
+        sky = ("x", (("x", (("y", ("hill",)),)), ("y", (("z", ()),)), ("z", (("x", ()),))))
+        word, first, again = tour_for(city, sky)
+        self.assertEqual(word, "tour")
+        self.assertTrue(is_tour(city, sky, first, again) and keeps_round(city, sky, first, again))
+        self.assertEqual((first + again)[0], WORK)
+        self.assertIs(is_tour(city, sky, (IDLE,), (WORK, IDLE, IDLE) * 2), False)
+
     def test_changed_tours_against_the_second_telling(self):
         many = {True: 0, False: 0}
         for city, sky in clear_worlds(80):
@@ -312,7 +322,9 @@ class Tourless(unittest.TestCase):
         for belief, rank in list(self.ranks.items())[::3]:
             following = self.table[belief]
             for other in (None, "1", (rank,), [rank], rank + 0.5, -1, -rank - 1, True, False):
-                self.told(False, {**self.ranks, belief: other})
+                ranks = {**self.ranks, belief: other}
+                self.told(False, ranks)
+                self.told(False, dict(reversed(list(ranks.items()))))
             if following:
                 highest = max(self.ranks[after] for after in following)
                 self.told(False, {**self.ranks, belief: highest})
@@ -377,6 +389,12 @@ class Tourless(unittest.TestCase):
         keys += [(time, ploughs, ((state, snow), (state, snow))), (time, ploughs, ((state, (99,) * len(snow)),)), ("0", ploughs, cases)]
         full = tuple(street[5] + 1 for street in self.city[1])
         keys.append((time, ploughs, ((state, full), (state, snow))))
+        keys += [(time, ploughs, 5), (time, ploughs, "cases")]
+        # Shut ones, but for one case that is none.
+        hour = [hour for hour in range(self.city[3][0]) if shut(self.city, (hour, ploughs, ((state, full),)))][0]
+        self.told(True, {**self.ranks, (hour, ploughs, ((state, full),)): 0})
+        for case in (("zzz", full), (state, full + (0,)), (state,), (state, full, 0), None, (state, (99,) * len(full))):
+            keys += [(hour, ploughs, ((state, full), case)), (hour, ploughs, (case, (state, full)))]
         for key in keys:
             self.told(False, {**self.ranks, key: 0})
 
