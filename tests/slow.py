@@ -178,18 +178,63 @@ def beats(city, sky, weather):
     return True, seen
 
 
-def can_keep(city, sky):
-    """Whether the promise can be kept: what is lost is taken out till nothing more is."""
+def safe_orders(city, sky):
+    """For each standing from which the promise can be kept, the list of the orders with which it can be."""
     left, _ = reached(city, sky)
     left = {standing for standing in left if not closed(city, standing)}
     table = {}
     for standing in left:
         table[standing] = [
-            {behind(city, sky, standing, given, answer) for answer in answers(city, sky, standing, given)}
+            (given, {behind(city, sky, standing, given, answer) for answer in answers(city, sky, standing, given)})
             for given in orders(city, standing)
         ]
     while True:
-        lost = [standing for standing in left if not any(after <= left for after in table[standing])]
+        lost = [standing for standing in left if not any(after <= left for _, after in table[standing])]
         if not lost:
-            return start(city, sky) in left
+            return {standing: [given for given, after in table[standing] if after <= left] for standing in left}
         left -= set(lost)
+
+
+def can_keep(city, sky):
+    """Whether the promise can be kept: what is lost is taken out till nothing more is."""
+    return start(city, sky) in safe_orders(city, sky)
+
+
+def drawn_rule(city, sky, safe, rng):
+    """A rule that keeps the promise, drawn from all orders with which it is kept; just what can be come to."""
+    return rule_by(city, sky, lambda standing: rng.choice(safe[standing]))
+
+
+def rule_by(city, sky, choose):
+    """The rule that has chosen orders at each standing to which it comes."""
+    rule = {}
+    todo = [start(city, sky)]
+    while todo:
+        standing = todo.pop()
+        if standing not in rule:
+            rule[standing] = choose(standing)
+            todo += [behind(city, sky, standing, rule[standing], answer) for answer in answers(city, sky, standing, rule[standing])]
+    return rule
+
+
+def under(city, sky, rule):
+    """For each standing to which a rule comes, the list of the pairs of an answer and the standing behind it."""
+    table = {}
+    todo = [start(city, sky)]
+    while todo:
+        standing = todo.pop()
+        if standing not in table:
+            given = rule[standing]
+            table[standing] = [
+                (answer, behind(city, sky, standing, given, answer)) for answer in answers(city, sky, standing, given)
+            ]
+            todo += [after for _, after in table[standing]]
+    return table
+
+
+def clears(city, standing, given, answer, street):
+    """Whether a plough that worked on a street comes with an answer."""
+    return any(
+        here and plough[0] == "on" and plough[1] == street and plough[3]
+        for plough, here in zip(ridden(city, standing, given), answer[1])
+    )

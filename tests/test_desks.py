@@ -12,11 +12,10 @@ from snowsure.runs import first_closed, run
 from snowsure.standingtexts import answer_text, orders_text
 from snowsure.world import answers_of, beginning, closed_streets, follow, orders_of
 from tests import slow
-from tests.samples import FAIR, OTHER_THINGS, PAIR, TOWN, small_worlds
+from tests.samples import FAIR, OTHER_THINGS, PAIR, STORM, TOWN, small_worlds
 
 HILL = ("hill", "a", "b", 1, 1, 2, ((0, 3),))
 CITY = (("a", "b"), (HILL,), (("ann", "a"),), (3, 0, 0))
-STORM = ("s", (("s", (("s", ("hill",)),)),))
 WORK, PASS, IDLE = (("hill", True),), (("hill", False),), (None,)
 COMES, STAYS = (0, (True,), None), (0, (False,), None)
 RULE = verdict(TOWN, FAIR)[1]

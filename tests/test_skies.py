@@ -6,10 +6,9 @@ import random
 import unittest
 
 from snowsure.skies import compared, comparison_holds, is_lead, is_relation
-from tests.samples import FAIR, OTHER_THINGS, clear_sky, small_worlds
+from tests.samples import FAIR, OTHER_THINGS, STORM, clear_sky, small_worlds
 
 CALM = ("calm", (("calm", (("calm", ()),)),))
-STORM = ("s", (("s", (("s", ("hill",)),)),))
 # Snow at most on every third tick; the fair sky has it on every second one.
 RARE = ("dry", (("dry", (("dry", ()), ("wet", ("hill",)))), ("wet", (("rest", ()),)), ("rest", (("dry", ()),))))
 # Both choose where it snows on the next tick: the one when it falls, the other one a tick ahead.

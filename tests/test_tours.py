@@ -6,10 +6,9 @@ import unittest
 from snowsure.errors import BadOrders, TooMany
 from snowsure.tours import belief_behind, first_belief, is_shut, is_tour, is_tourless, tour_for
 from tests import slow
-from tests.samples import FAIR, OTHER_THINGS, PAIR, TOWN, empty_town, small_worlds, with_rules
+from tests.samples import FAIR, OTHER_THINGS, PAIR, STORM, TOWN, empty_town, small_worlds, with_rules
 
 PROMPT = with_rules(TOWN, 3, 0, 0)
-STORM = ("s", (("s", (("s", ("hill",)),)),))
 HILL_OF_TWO = ("hill", "a", "b", 1, 1, 2, ((0, 3),))
 SNOWY = (("a", "b"), (HILL_OF_TWO,), (("ann", "a"),), (3, 0, 0))
 WORK = (("hill", True),)
