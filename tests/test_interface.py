@@ -57,6 +57,35 @@ FUNCTIONS = {
         "compared": "one, other", "is_relation": "one, other, thing", "is_lead": "one, other, thing",
         "comparison_holds": "one, other, told",
     },
+    "madeskies": {
+        "noticed_sky": "sky, notice", "either_sky": "one, other", "spared_sky": "sky, spared", "calm_sky": "", "worst_sky": "city",
+    },
+    "carrying": {
+        "is_milder": "city, other", "carried_rule": "city, sky, harder, rule, relation", "kept_part": "city, sky, rule",
+    },
+    "promises": {
+        "ticks_to_clear": "city, sky, rule, street", "promised": "city, sky, rule, standing, street",
+        "is_promise": "city, sky, rule, street, thing", "delay_from": "city, sky, rule, standing, street",
+        "is_delay": "city, sky, rule, standing, street, thing",
+    },
+    "costs": {
+        "cost_of": "standing", "dearest": "city, sky, rule", "is_chart": "city, sky, rule, mean, thing",
+        "is_lap": "city, sky, rule, mean, thing",
+    },
+    "cards": {
+        "all_facts": "city, plough", "seen_with": "standing, plough, facts", "is_card": "city, sky, rule, plough, thing",
+        "card_of": "city, sky, rule, plough, facts", "fewest_facts": "city, sky, rule, plough",
+        "are_pairs": "city, sky, rule, plough, many, thing",
+    },
+    "fleet": {
+        "cards_for": "city, sky, rule", "are_cards": "city, sky, rule, thing", "orders_by_cards": "standing, cards",
+        "driven_by_cards": "city, sky, cards, answers", "ever_closed": "city, standings",
+    },
+    "blame": {
+        "is_event": "city, sky, standing, thing", "happened": "city, sky, standing, event",
+        "wrong_with": "city, sky, rule, standing, event", "way_of": "city, sky, events", "blame": "city, sky, rule, events",
+    },
+    "shell": {"run_script": "text"},
 }
 
 METHODS = {"__init__": "self, city, sky, text", "write": "self, orders, answer", "settle": "self", "fallen": "self, cut"}
@@ -171,10 +200,64 @@ len(Desk(town, storm, desk.fallen(22)).ticks), len(standings_in(desk))
 ''',
     "skies": '''
 >>> from snowsure.skies import compared, is_lead, is_relation
->>> calm_sky = lambda: ("calm", (("calm", (("calm", ()),)),))
+>>> from snowsure.madeskies import calm_sky
 >>> compared(calm_sky(), storm)[0], compared(storm, calm_sky())[0], is_lead(storm, calm_sky(), {("s", "calm"): (0, 0)}), \
 is_relation(calm_sky(), storm, {("calm", "s"): True})
 ('no worse', 'worse', True, True)
+''',
+    "madeskies": '''
+>>> from snowsure.madeskies import calm_sky, either_sky, noticed_sky, spared_sky, worst_sky
+>>> compared(worst_sky(town), storm)[0], compared(spared_sky(storm, ("hill",)), calm_sky())[0], \
+compared(storm, either_sky(storm, calm_sky()))[0], compared(noticed_sky(calm_sky(), ((),)), calm_sky())[0]
+('no worse', 'no worse', 'no worse', 'no worse')
+''',
+    "carrying": '''
+>>> from snowsure.carrying import carried_rule, is_milder, kept_part
+>>> rule = verdict(town, storm)[1]
+>>> calm = calm_sky()
+>>> is_milder(town, town), is_rule(town, calm, carried_rule(town, calm, (town, storm), rule, compared(calm, storm)[1])), \
+is_rule(town, storm, kept_part(town, storm, rule)), kept_part(town, storm, {})
+(True, True, True, {})
+''',
+    "promises": '''
+>>> from snowsure.promises import delay_from, is_delay, is_promise, promised, ticks_to_clear
+>>> always = dict([((time, "s", (snow,), (("at", end),), 0), (("hill", True),)) for time, snow, end in \
+[(0, 0, "a"), (1, 1, "b"), (2, 1, "a"), (0, 1, "b"), (1, 1, "a"), (2, 1, "b"), (0, 1, "a")]])
+>>> is_rule(town, storm, always), promised(town, storm, always, first, "hill"), delay_from(town, storm, always, first, "hill"), \
+is_promise(town, storm, always, "hill", {first: 1})
+(True, 1, ((), None), True)
+''',
+    "costs": '''
+>>> from snowsure.costs import cost_of, dearest, is_chart, is_lap
+>>> mean, chart, lap = dearest(town, storm, always)
+>>> mean, is_chart(town, storm, always, mean, chart), is_lap(town, storm, always, mean, lap), cost_of(first), \
+is_lap(town, storm, always, (1, 1), lap)
+((0, 1), True, True, 0, False)
+''',
+    "cards": '''
+>>> from snowsure.cards import all_facts, are_pairs, card_of, fewest_facts, is_card, seen_with
+>>> all_facts(town, 0), seen_with(first, 0, (("time",), ("snow", 0))), fewest_facts(town, storm, always, 0)
+((('fallen',), ('snow', 0), ('state',), ('time',)), ('a', 0, 0), (((), {('a',): ('hill', True), ('b',): ('hill', True)}), ()))
+''',
+    "fleet": '''
+>>> from snowsure.fleet import are_cards, cards_for, driven_by_cards, ever_closed, orders_by_cards
+>>> cards = cards_for(town, storm, always)
+>>> are_cards(town, storm, always, cards), orders_by_cards(first, cards), \
+ever_closed(town, driven_by_cards(town, storm, cards, ((0, (True,), None),) * 5))
+(True, (('hill', True),), ())
+''',
+    "blame": '''
+>>> from snowsure.blame import blame, happened, is_event, way_of, wrong_with
+>>> idle = ((None,), 0, ("hill",), (False,), ())
+>>> is_event(town, storm, first, idle), happened(town, storm, first, idle), wrong_with(town, storm, always, first, idle), \
+blame(town, storm, always, (idle, idle, idle)) == (3, ("hill",), ((0, ("orders",)), (1, ("orders",)), (2, ("orders",)))), \
+blame(town, storm, always, (idle,))
+(True, (1, 's', (1,), (('at', 'a'),), 0), ('orders',), True, None)
+''',
+    "shell": '''
+>>> from snowsure.shell import run_script
+>>> run_script(text + "\\ngo\\nnow\\nclosed\\ntick hill:work / 0 y -\\nnow\\nfall 3")
+['0 s 0 at:a 0', 'closed', 'at 1', '1 s 1 at:b 0', 'at 0']
 ''',
 }
 

@@ -101,6 +101,7 @@ class Language(unittest.TestCase):
 
     def test_l3_module_level(self):
         for path in files():
+            above = set()
             for number, node in enumerate(ast.parse(path.read_text()).body):
                 if isinstance(node, ast.Expr):
                     self.assertEqual(number, 0)
@@ -108,9 +109,34 @@ class Language(unittest.TestCase):
                 elif isinstance(node, ast.Assign):
                     self.assertEqual(len(node.targets), 1)
                     self.assertIsInstance(node.targets[0], ast.Name)
-                    ast.literal_eval(node.value)
+                    if not self.is_table(node.value, above):
+                        ast.literal_eval(node.value)
                 else:
                     self.assertIsInstance(node, (ast.ImportFrom, ast.FunctionDef, ast.ClassDef))
+                if isinstance(node, ast.FunctionDef):
+                    above.add(node.name)
+
+    def is_table(self, value, above):
+        """Whether a value is a dict of functions that are defined above."""
+        if not isinstance(value, ast.Dict):
+            return False
+        return all(isinstance(key, ast.Constant) for key in value.keys) and all(isinstance(row, ast.Name) and row.id in above for row in value.values)
+
+    def test_l3_functions_of_a_table_are_called_by_a_name(self):
+        for name, node in self.each(ast.Call):
+            self.assertNotIsInstance(node.func, ast.Subscript, (name, node.lineno))
+
+    def test_l15_tables_at_module_level_are_only_read(self):
+        for path in files():
+            tree = ast.parse(path.read_text())
+            tables = {node.targets[0].id for node in tree.body if isinstance(node, ast.Assign) and isinstance(node.value, (ast.Dict, ast.List))}
+            around = {id(child): node for node in ast.walk(tree) for child in ast.iter_child_nodes(node)}
+            for node in ast.walk(tree):
+                if isinstance(node, ast.Name) and isinstance(node.ctx, ast.Load) and node.id in tables:
+                    outer = around[id(node)]
+                    by_index = isinstance(outer, ast.Subscript) and isinstance(outer.ctx, ast.Load)
+                    by_get = isinstance(outer, ast.Attribute) and outer.attr == "get"
+                    self.assertTrue(by_index or by_get or isinstance(outer, ast.Compare), (path.name, node.lineno))
 
     def test_l6_statements(self):
         for name, node in self.each(ast.stmt):
